@@ -81,6 +81,14 @@ def length(machine, text):
     return None if end is None else bits + end
 
 
+def owned_length(machine, text):
+    """How many bits a text takes. NoText is raised also for what is none of the machine's texts."""
+    bits = length(machine, text)
+    if bits is None:
+        raise NoText()
+    return bits
+
+
 def trimmed(machine):
     """The machine with those states alone through which its texts go, numbered anew."""
     demand_machine(machine)

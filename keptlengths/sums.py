@@ -37,9 +37,12 @@ def kept(machine):
 def raised(machine):
     """The least number of bits more for all texts by which total is at most 1, or None."""
     told = total(machine)
-    if told is None:
-        return None
-    top, bottom = told
+    return None if told is None else halvings(told)
+
+
+def halvings(worth):
+    """The least integer from 0 on such that a fraction, halved so often, is at most 1."""
+    top, bottom = worth
     number = 0
     while top > bottom << number:
         number += 1

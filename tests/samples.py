@@ -116,6 +116,99 @@ def texts_up_to(size, letters):
         yield from itertools.product(range(size), repeat=many)
 
 
+def texts_by_length(machine, most, room=20000):
+    """For each length up to the most all texts, ascending; None if there are too many to list.
+
+    The machine has no idle ring.
+    """
+    left = set(plain_left(machine))
+    found = [[] for _ in range(most + 1)]
+    waiting = [((), 0, 0)] if left else []
+    while waiting:
+        text, state, bits = waiting.pop()
+        room -= 1
+        if room < 0:
+            return None
+        end, steps = machine[1][state]
+        if end is not None and bits + end <= most:
+            found[bits + end].append(text)
+        for letter, step in enumerate(steps):
+            if step is not None and step[1] in left and bits + step[0] < most:
+                waiting.append((text + (letter,), step[1], bits + step[0]))
+    return [sorted(texts) for texts in found]
+
+
+def listed(machine, room=20000):
+    """As texts_by_length, as far as there are few enough to list."""
+    for most in (14, 10, 7, 5, 4, 3, 2, 1):
+        told = texts_by_length(machine, most, room)
+        if told is not None:
+            return told
+    return [[]]
+
+
+def plain_many(machine, most):
+    """For each length up to the most how many texts have it, counted from state 0 on."""
+    rows = machine[1]
+    left = set(plain_left(machine))
+    found = [0] * (most + 1)
+    here = [{} for _ in range(most + 1)]
+    if left:
+        here[0][0] = 1
+    for bits in range(most + 1):
+        level = here[bits]
+        # Letters without a bit are read one after the other: of texts of 0, 1, 2 .. such.
+        while level:
+            behind = {}
+            for state, number in level.items():
+                end, steps = rows[state]
+                if end is not None and bits + end <= most:
+                    found[bits + end] += number
+                for step in steps:
+                    if step is None or step[1] not in left or bits + step[0] > most:
+                        continue
+                    into = behind if step[0] == 0 else here[bits + step[0]]
+                    into[step[1]] = into.get(step[1], 0) + number
+            level = behind
+        here[bits] = None
+    return found
+
+
+def dealt(by_length):
+    """The words of texts that are listed by length, dealt one by one, each the first that is free."""
+    taken = set()
+    words = {}
+    for bits, texts in enumerate(by_length):
+        waiting = list(texts)
+        for number in range(2 ** bits):
+            if not waiting:
+                break
+            word = format(number, "0%db" % bits)
+            if not any(word[:k] in taken for k in range(bits + 1)):
+                words[waiting.pop(0)] = word
+                taken.add(word)
+        assert not waiting
+    return words
+
+
+def raised_by(machine, number):
+    """The machine with so many bits more at each end, None if some end would be above 60."""
+    size, rows = machine
+    ends = [None if end is None else end + number for end, steps in rows]
+    if any(end is not None and end > 60 for end in ends):
+        return None
+    return (size, tuple((end, steps) for end, (_end, steps) in zip(ends, rows)))
+
+
+def told_error(function, *arguments):
+    """The class of the error that a call raises and its fields, None if it raises none."""
+    try:
+        function(*arguments)
+    except Exception as error:
+        return (type(error), dict(vars(error)))
+    return None
+
+
 def reaching(machine):
     """For each state the set of states to which one comes from it, itself among them."""
     rows = machine[1]

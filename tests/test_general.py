@@ -5,10 +5,17 @@ import importlib
 import inspect
 import unittest
 
-from keptlengths.errors import LengthError, NoMachine, NoSize, NoText
+from keptlengths.compare import excess, is_endless, kin, parting
+from keptlengths.counting import many, place_of, text_at
+from keptlengths.errors import (
+    Idle, LengthError, NoBits, NoLot, NoMachine, NoNumber, NoSize, NoText, NoTexts, NotKept,
+    OtherSize, TooMany,
+)
+from keptlengths.lots import best, is_lot, lot_word, price, read_lot_word, sum_best
 from keptlengths.machines import is_bits, is_idle, is_machine, is_text, idle, length, trimmed
 from keptlengths.sums import is_worths, kept, raised, total, worths
-from samples import KNOTTY, ODD, mixed, nested, random_machines
+from keptlengths.words import needed, packed, read_word, unpacked, word
+from samples import ABOVE, JUST, KNOTTY, NEGATIVE, ODD, ONES, mixed, nested, random_machines, told_error
 
 INTERFACE = {
     "machines": {
@@ -20,10 +27,72 @@ INTERFACE = {
         "total": ("machine",), "worths": ("machine",), "is_worths": ("machine", "thing"),
         "kept": ("machine",), "raised": ("machine",),
     },
+    "counting": {
+        "many": ("machine", "length"), "text_at": ("machine", "length", "place"),
+        "place_of": ("machine", "text"),
+    },
+    "words": {
+        "word": ("machine", "text"), "read_word": ("machine", "bits"),
+        "packed": ("machine", "texts"), "unpacked": ("machine", "bits"),
+        "needed": ("machine", "texts"),
+    },
+    "compare": {
+        "parting": ("one", "other"), "excess": ("one", "other"), "kin": ("machine",),
+        "is_endless": ("one", "other", "thing"),
+    },
+    "lots": {
+        "is_lot": ("thing",), "best": ("lot", "text"), "sum_best": ("lot", "n"),
+        "price": ("lot", "n"), "lot_word": ("lot", "text"), "read_lot_word": ("lot", "n", "bits"),
+    },
 }
-OF_A_MACHINE = (trimmed, idle, total, worths, kept, raised)
-OF_A_MACHINE_AND_MORE = (length, is_idle, is_worths)
-OF_A_THING = (is_machine, is_bits)
+OF_A_MACHINE = (trimmed, idle, total, worths, kept, raised, kin)
+OF_A_MACHINE_AND_MORE = (
+    length, is_idle, is_worths, many, place_of, word, read_word, packed, unpacked, needed, parting,
+    excess,
+)
+OF_A_THING = (is_machine, is_bits, is_lot)
+OF_A_LOT_AND_MORE = (best, sum_best, price, lot_word)
+# Each function that takes more than a thing or a machine, with arguments that it answers.
+CALLS = (
+    (length, (KNOTTY, (2,))), (is_idle, (NEGATIVE, (0, (0,)))), (is_worths, (JUST, ((1, 1),))),
+    (many, (JUST, 5)), (text_at, (JUST, 5, 2)), (place_of, (JUST, (1, 0))),
+    (word, (JUST, (1, 0))), (read_word, (JUST, "110100")), (packed, (JUST, ((), (1, 0)))),
+    (unpacked, (JUST, "0110100")), (needed, (ABOVE, ((), (1, 0)))), (parting, (JUST, ABOVE)),
+    (excess, (JUST, ABOVE)), (excess, (ABOVE, JUST)), (excess, (ONES, JUST)),
+    (is_endless, (JUST, ABOVE, ("endless", (), (0,), ()))), (best, ((ONES, JUST), (0,))),
+    (sum_best, ((ONES, JUST), 3)), (price, ((NEGATIVE, JUST), 3)),
+    (lot_word, ((ONES, JUST), (0, 1))), (read_lot_word, ((ONES, JUST), 2, "000110")),
+)
+# What each of them raises for, and what is raised, where more than one error is due.
+DUE = (
+    (many, (None, None), NoMachine), (many, (NEGATIVE, 4001), NoNumber), (many, (NEGATIVE, 0), Idle),
+    (text_at, (ONES + (0,), 4001, -1), NoMachine), (text_at, (NEGATIVE, -1, -1), NoNumber),
+    (text_at, (NEGATIVE, 3, -1), Idle), (text_at, (ONES, 3, 1), NoNumber),
+    (place_of, ([], [0]), NoMachine), (place_of, (NEGATIVE, (2,)), NoText),
+    (place_of, ((2, ((1, ((0, 0), None)),)), (1,)), NoText), (place_of, (NEGATIVE, (0,)), Idle),
+    (place_of, ((2, ((1, ((0, 0), (60, 0))),)), (1,) * 400), Idle),
+    (place_of, (ONES, (0,) * 4000), TooMany),
+    (word, (None, None), NoMachine), (word, (ABOVE, [0]), NoText), (word, (ABOVE, ()), NotKept),
+    (word, ((2, ((1, ((0, 0), None)),)), (1,)), NoText), (word, (ABOVE, (1,) * 4000), NotKept),
+    (word, (ONES, (0,) * 4000), TooMany),
+    (read_word, (None, None), NoMachine), (read_word, (ABOVE, "2"), NoBits),
+    (read_word, (ABOVE, ""), NotKept),
+    (packed, (None, None), NoMachine), (packed, (ABOVE, [()]), NoTexts),
+    (packed, (ABOVE, ((2,),)), NoTexts), (packed, (ONES, ((0,) * 4000, (1,))), NoTexts),
+    (packed, (ABOVE, ((1,) * 4000,)), NotKept), (packed, (ONES, ((), (0,) * 4000)), TooMany),
+    (unpacked, (None, None), NoMachine), (unpacked, (ABOVE, b"0"), NoBits),
+    (unpacked, (ABOVE, ""), NotKept),
+    (needed, (None, None), NoMachine), (needed, (ABOVE, ()), None), (needed, (ABOVE, [()]), NoTexts),
+    (parting, (None, KNOTTY), NoMachine), (parting, (KNOTTY, ONES[1]), NoMachine),
+    (parting, (KNOTTY, ONES), OtherSize), (excess, (KNOTTY, []), NoMachine),
+    (excess, (ONES, KNOTTY), OtherSize), (is_endless, (KNOTTY, None, None), NoMachine),
+    (is_endless, (KNOTTY, ONES, None), OtherSize), (kin, (list(ONES),), NoMachine),
+    (best, ((ONES, KNOTTY), [0]), NoLot), (best, ((ONES,), [0]), NoText),
+    (sum_best, ((), 13), NoLot), (price, ((ONES,) * 5, 13), NoLot), (price, ((ONES,), 13), NoNumber),
+    (lot_word, ([ONES], None), NoLot), (lot_word, ((ONES,), (1,)), NoText),
+    (read_lot_word, (ONES, 13, "2"), NoLot), (read_lot_word, ((ONES,), 13, "2"), NoNumber),
+    (read_lot_word, ((ONES,), 12, "2"), NoBits),
+)
 
 
 class Interface(unittest.TestCase):
@@ -62,6 +131,19 @@ class Order(unittest.TestCase):
                     with self.assertRaises(NoSize):
                         is_text(odd, other)
 
+    def test_the_error_that_is_due_first_is_told_of_just_its_class(self):
+        for function, arguments, error in DUE:
+            with self.subTest(function.__name__, arguments=arguments):
+                fields = {"most": 4000} if error is TooMany else {}
+                told = None if error is None else (error, fields)
+                self.assertEqual(told_error(function, *arguments), told)
+
+    def test_of_two_machines_the_first_is_checked_first(self):
+        for odd in ODD:
+            for tell, more in ((parting, ()), (excess, ()), (is_endless, (None,))):
+                self.assertEqual(told_error(tell, odd, KNOTTY, *more), (NoMachine, {}))
+                self.assertEqual(told_error(tell, KNOTTY, odd, *more), (NoMachine, {}))
+
     def test_an_argument_is_checked_completely_before_the_next_one(self):
         rows = KNOTTY[1][:-1] + ((9, ((0, 5), (0, 3), (0, 6))),)
         with self.assertRaises(NoMachine):
@@ -89,6 +171,23 @@ class Nothing(unittest.TestCase):
                     pass
         self.assertEqual(own, before)
 
+    def test_is_changed_by_calls_with_more_arguments(self):
+        things = [KNOTTY, [1, [2]], {"a": [3]}, [[0], [1]], ("endless", [0], [0], [0]),
+                  ((0,), [0]), ([0],), [list(ONES)], (JUST, list(ONES)), {0: [ONES]}]
+        for function, arguments in CALLS:
+            for at in range(len(arguments)):
+                for thing in things:
+                    own = arguments[:at] + (copy.deepcopy(thing),) + arguments[at + 1:]
+                    told_error(function, *own)
+                    self.assertEqual(own[at], thing)
+                    self.assertEqual(own[:at] + own[at + 1:], arguments[:at] + arguments[at + 1:])
+
+    def test_equal_calls_are_answered_alike(self):
+        told = [function(*arguments) for function, arguments in CALLS]
+        again = [function(*copy.deepcopy(arguments)) for function, arguments in reversed(CALLS)]
+        self.assertEqual(told, again[::-1])
+        self.assertNotIn(None, told)
+
     def test_is_kept_between_calls(self):
         first, again = random_machines(60, 8), random_machines(60, 8)
         told = [[tell(machine) for tell in OF_A_MACHINE] for machine in first]
@@ -112,6 +211,27 @@ class Deep(unittest.TestCase):
                     tell(thing, thing)
             with self.assertRaises(NoText):
                 length(KNOTTY, thing)
+            for tell in OF_A_LOT_AND_MORE:
+                self.assertEqual(told_error(tell, thing, thing), (NoLot, {}))
+            self.assertEqual(told_error(read_lot_word, thing, thing, thing), (NoLot, {}))
+            self.assertEqual(told_error(text_at, thing, thing, thing), (NoMachine, {}))
+            self.assertEqual(told_error(is_endless, thing, thing, thing), (NoMachine, {}))
+
+    def test_no_recursion_error_for_later_arguments(self):
+        for thing in (nested(30), mixed(30), nested(29, [{}]), nested(5000), mixed(5000)):
+            for function, error in (
+                    (many, NoNumber), (place_of, NoText), (word, NoText), (read_word, NoBits),
+                    (packed, NoTexts), (unpacked, NoBits), (needed, NoTexts), (parting, NoMachine),
+                    (excess, NoMachine)):
+                self.assertEqual(told_error(function, JUST, thing), (error, {}))
+            self.assertEqual(told_error(text_at, JUST, 3, thing), (NoNumber, {}))
+            for tell, error in ((best, NoText), (sum_best, NoNumber), (price, NoNumber),
+                                (lot_word, NoText)):
+                self.assertEqual(told_error(tell, (JUST,), thing), (error, {}))
+            self.assertEqual(told_error(read_lot_word, (JUST,), 3, thing), (NoBits, {}))
+            for other in (thing, ("endless", thing, (0,), ()), ("endless", (), (0,), (thing,)),
+                          (thing, (), (0,), ())):
+                self.assertIs(is_endless(JUST, ABOVE, other), False)
 
     def test_wide_things(self):
         wide = (0,) * 2000000

@@ -10,14 +10,18 @@ MOST_BITS = 60
 
 def is_machine(thing):
     """Whether a thing is a machine."""
+    if not is_framed(thing):
+        return False
+    size, rows = thing
+    return all([is_row(row, size, len(rows)) for row in rows])
+
+
+def is_framed(thing):
+    """Whether a thing is a pair of a size and a tuple of as many items as there may be states."""
     if not is_pair(thing):
         return False
     size, rows = thing
-    if not is_size(size) or not isinstance(rows, tuple):
-        return False
-    if not 1 <= len(rows) <= MOST_STATES:
-        return False
-    return all([is_row(row, size, len(rows)) for row in rows])
+    return is_size(size) and isinstance(rows, tuple) and 1 <= len(rows) <= MOST_STATES
 
 
 def is_size(thing):
@@ -92,14 +96,24 @@ def owned_length(machine, text):
 def trimmed(machine):
     """The machine with those states alone through which its texts go, numbered anew."""
     demand_machine(machine)
+    return trimmed_of(machine)
+
+
+def trimmed_of(machine):
+    """As trimmed, of a machine with as many states as it may be."""
     size, rows = machine
     come_to = spread([0], nexts(rows))
     ending = spread([state for state, row in enumerate(rows) if row[0] is not None], befores(rows))
     left = [state for state in range(len(rows)) if come_to[state] and ending[state]]
     if not left:
-        return (size, ((None, (None,) * size),))
+        return textless(size)
     numbers = {state: number for number, state in enumerate(left)}
     return (size, tuple([renumbered(rows[state], numbers) for state in left]))
+
+
+def textless(size):
+    """The trimmed machine of a size that has no texts."""
+    return (size, ((None, (None,) * size),))
 
 
 def nexts(rows):

@@ -5,17 +5,24 @@ import importlib
 import inspect
 import unittest
 
+from keptlengths.algebra import behind, chosen, filtered, longer, relettered, rows_of, without
+from keptlengths.codes import alike, is_alike, is_code, keeps
 from keptlengths.compare import excess, is_endless, kin, parting
 from keptlengths.counting import many, place_of, text_at
 from keptlengths.errors import (
-    Idle, LengthError, NoBits, NoLot, NoMachine, NoNumber, NoSize, NoText, NoTexts, NotKept,
-    OtherSize, TooMany,
+    Idle, Kept, LengthError, NoBits, NoCode, NoEnd, NoLetters, NoLot, NoMachine, NoMachines, NoNumber,
+    NoShape, NoSize, NoText, NoTexts, NotKept, OtherSize, TooMany,
 )
+from keptlengths.fitting import fitted, is_shape
+from keptlengths.foes import is_verdict, play, proof_lot
 from keptlengths.lots import best, is_lot, lot_word, price, read_lot_word, sum_best
 from keptlengths.machines import is_bits, is_idle, is_machine, is_text, idle, length, trimmed
 from keptlengths.sums import is_worths, kept, raised, total, worths
 from keptlengths.words import needed, packed, read_word, unpacked, word
-from samples import ABOVE, JUST, KNOTTY, NEGATIVE, ODD, ONES, mixed, nested, random_machines, told_error
+from samples import (
+    ABOVE, JUST, KNOTTY, NEGATIVE, ODD, ONES, chain, mixed, nested, plain_length,
+    random_machines, told_error,
+)
 
 INTERFACE = {
     "machines": {
@@ -44,14 +51,37 @@ INTERFACE = {
         "is_lot": ("thing",), "best": ("lot", "text"), "sum_best": ("lot", "n"),
         "price": ("lot", "n"), "lot_word": ("lot", "text"), "read_lot_word": ("lot", "n", "bits"),
     },
+    "codes": {
+        "is_code": ("size", "thing"), "is_alike": ("code", "thing"), "alike": ("code",),
+        "keeps": ("machine", "code"),
+    },
+    "foes": {
+        "proof_lot": ("machine",), "play": ("machine", "packer"),
+        "is_verdict": ("machine", "packer", "thing"),
+    },
+    "algebra": {
+        "longer": ("machine", "number"), "relettered": ("machine", "letters"),
+        "filtered": ("machine", "sieve"), "without": ("machine", "sieve"),
+        "chosen": ("machines", "more"), "behind": ("one", "other"), "rows_of": ("machine", "more"),
+    },
+    "fitting": {"is_shape": ("thing",), "fitted": ("shape", "texts")},
 }
-OF_A_MACHINE = (trimmed, idle, total, worths, kept, raised, kin)
+OF_A_MACHINE = (trimmed, idle, total, worths, kept, raised, kin, proof_lot)
 OF_A_MACHINE_AND_MORE = (
     length, is_idle, is_worths, many, place_of, word, read_word, packed, unpacked, needed, parting,
-    excess,
+    excess, keeps, play, longer, relettered, filtered, without, behind, rows_of,
 )
-OF_A_THING = (is_machine, is_bits, is_lot)
+OF_A_THING = (is_machine, is_bits, is_lot, is_shape)
 OF_A_LOT_AND_MORE = (best, sum_best, price, lot_word)
+CODE = (((), "0"), ((0,), "01"), ((1,), "10"))
+SHAPE = (2, ((True, (0, 1)), (True, (None, 0))))
+
+
+def zeros(text):
+    """A packer of the texts of ABOVE."""
+    return "0" * plain_length(ABOVE, text)
+
+
 # Each function that takes more than a thing or a machine, with arguments that it answers.
 CALLS = (
     (length, (KNOTTY, (2,))), (is_idle, (NEGATIVE, (0, (0,)))), (is_worths, (JUST, ((1, 1),))),
@@ -62,6 +92,12 @@ CALLS = (
     (is_endless, (JUST, ABOVE, ("endless", (), (0,), ()))), (best, ((ONES, JUST), (0,))),
     (sum_best, ((ONES, JUST), 3)), (price, ((NEGATIVE, JUST), 3)),
     (lot_word, ((ONES, JUST), (0, 1))), (read_lot_word, ((ONES, JUST), 2, "000110")),
+    (is_code, (2, CODE)), (alike, (CODE,)), (is_alike, (CODE, ((0, 2), (1, 0)))),
+    (keeps, (JUST, CODE[:1] + (((0,), "0101"),))), (play, (ABOVE, zeros)),
+    (is_verdict, (ABOVE, zeros, ("alike", ((), ()), ((0,),)))), (longer, (KNOTTY, 5)),
+    (relettered, (KNOTTY, (2, 0, 1))), (filtered, (JUST, ONES)), (without, (JUST, ONES)),
+    (chosen, ((JUST, ONES), 3)), (behind, (JUST, ONES)), (rows_of, (JUST, 3)),
+    (fitted, (SHAPE, ((), (0, 1, 1)))),
 )
 # What each of them raises for, and what is raised, where more than one error is due.
 DUE = (
@@ -92,6 +128,23 @@ DUE = (
     (lot_word, ([ONES], None), NoLot), (lot_word, ((ONES,), (1,)), NoText),
     (read_lot_word, (ONES, 13, "2"), NoLot), (read_lot_word, ((ONES,), 13, "2"), NoNumber),
     (read_lot_word, ((ONES,), 12, "2"), NoBits),
+    (is_code, (0, None), NoSize), (is_code, (True, CODE), NoSize), (is_alike, ([], None), NoCode),
+    (keeps, (None, None), NoMachine), (keeps, (JUST, list(CODE)), NoCode),
+    (proof_lot, ((),), NoMachine), (proof_lot, (JUST,), Kept), (proof_lot, (NEGATIVE,), Idle),
+    (play, (None, None), NoMachine), (play, (JUST, None), Kept), (play, (NEGATIVE, None), Idle),
+    (is_verdict, (None, None, None), NoMachine),
+    (longer, (None, 61), NoMachine), (longer, (chain(2, 2, 1, 60), 61), NoNumber),
+    (longer, (chain(2, 2, 1, 60), 1), NoEnd), (relettered, (None, None), NoMachine),
+    (relettered, (JUST, [0, 1]), NoLetters), (filtered, (None, KNOTTY), NoMachine),
+    (filtered, (JUST, None), NoMachine), (filtered, (JUST, KNOTTY), OtherSize),
+    (without, (None, KNOTTY), NoMachine), (without, (JUST, None), NoMachine),
+    (without, (JUST, KNOTTY), OtherSize), (chosen, ([JUST, JUST], 61), NoMachines),
+    (chosen, ((chain(30, 2, 1, 60),) * 2, 61), NoNumber), (behind, (None, KNOTTY), NoMachine),
+    (behind, (JUST, None), NoMachine), (behind, (chain(30, 8, 1, 1), JUST), OtherSize),
+    (behind, (chain(30, 8, 1, 1),) * 2, NoSize), (rows_of, (None, 61), NoMachine),
+    (rows_of, (chain(30, 8, 1, 60), 61), NoSize), (rows_of, (chain(30, 7, 1, 60), 61), NoNumber),
+    (rows_of, (chain(30, 7, 1, 60), 1), NoEnd), (fitted, (None, None), NoShape),
+    (fitted, (SHAPE, [()]), NoTexts),
 )
 
 
@@ -140,7 +193,8 @@ class Order(unittest.TestCase):
 
     def test_of_two_machines_the_first_is_checked_first(self):
         for odd in ODD:
-            for tell, more in ((parting, ()), (excess, ()), (is_endless, (None,))):
+            for tell, more in ((parting, ()), (excess, ()), (is_endless, (None,)), (filtered, ()),
+                               (without, ()), (behind, ())):
                 self.assertEqual(told_error(tell, odd, KNOTTY, *more), (NoMachine, {}))
                 self.assertEqual(told_error(tell, KNOTTY, odd, *more), (NoMachine, {}))
 
@@ -162,6 +216,7 @@ class Nothing(unittest.TestCase):
             for tell in OF_A_THING:
                 tell(thing)
             is_text(3, thing)
+            is_code(3, thing)
             is_idle(KNOTTY, thing)
             is_worths(KNOTTY, thing)
             for tell in OF_A_MACHINE:
@@ -173,7 +228,9 @@ class Nothing(unittest.TestCase):
 
     def test_is_changed_by_calls_with_more_arguments(self):
         things = [KNOTTY, [1, [2]], {"a": [3]}, [[0], [1]], ("endless", [0], [0], [0]),
-                  ((0,), [0]), ([0],), [list(ONES)], (JUST, list(ONES)), {0: [ONES]}]
+                  ((0,), [0]), ([0],), [list(ONES)], (JUST, list(ONES)), {0: [ONES]}, [0, 1],
+                  ((0, 2), [1, 0]), [[0, 2], [1, 0]], list(CODE), (((), "0"), [(1,), "1"]),
+                  ("alike", [()], [(0,)]), (2, list(SHAPE[1])), [()]]
         for function, arguments in CALLS:
             for at in range(len(arguments)):
                 for thing in things:
@@ -190,9 +247,10 @@ class Nothing(unittest.TestCase):
 
     def test_is_kept_between_calls(self):
         first, again = random_machines(60, 8), random_machines(60, 8)
-        told = [[tell(machine) for tell in OF_A_MACHINE] for machine in first]
+        tells = [tell for tell in OF_A_MACHINE if tell != proof_lot]
+        told = [[tell(machine) for tell in tells] for machine in first]
         for machine, results in reversed(list(zip(again, told))):
-            self.assertEqual([tell(machine) for tell in OF_A_MACHINE], results)
+            self.assertEqual([tell(machine) for tell in tells], results)
 
 
 class Deep(unittest.TestCase):
@@ -216,19 +274,35 @@ class Deep(unittest.TestCase):
             self.assertEqual(told_error(read_lot_word, thing, thing, thing), (NoLot, {}))
             self.assertEqual(told_error(text_at, thing, thing, thing), (NoMachine, {}))
             self.assertEqual(told_error(is_endless, thing, thing, thing), (NoMachine, {}))
+            self.assertEqual(told_error(is_verdict, thing, thing, thing), (NoMachine, {}))
+            self.assertEqual(told_error(chosen, thing, thing), (NoMachines, {}))
+            self.assertEqual(told_error(fitted, thing, thing), (NoShape, {}))
+            self.assertEqual(told_error(is_alike, thing, thing), (NoCode, {}))
+            self.assertEqual(told_error(alike, thing), (NoCode, {}))
+            self.assertEqual(told_error(is_code, thing, thing), (NoSize, {}))
 
     def test_no_recursion_error_for_later_arguments(self):
         for thing in (nested(30), mixed(30), nested(29, [{}]), nested(5000), mixed(5000)):
             for function, error in (
                     (many, NoNumber), (place_of, NoText), (word, NoText), (read_word, NoBits),
                     (packed, NoTexts), (unpacked, NoBits), (needed, NoTexts), (parting, NoMachine),
-                    (excess, NoMachine)):
+                    (excess, NoMachine), (keeps, NoCode), (longer, NoNumber), (relettered, NoLetters),
+                    (filtered, NoMachine), (without, NoMachine), (behind, NoMachine),
+                    (rows_of, NoNumber)):
                 self.assertEqual(told_error(function, JUST, thing), (error, {}))
             self.assertEqual(told_error(text_at, JUST, 3, thing), (NoNumber, {}))
             for tell, error in ((best, NoText), (sum_best, NoNumber), (price, NoNumber),
                                 (lot_word, NoText)):
                 self.assertEqual(told_error(tell, (JUST,), thing), (error, {}))
             self.assertEqual(told_error(read_lot_word, (JUST,), 3, thing), (NoBits, {}))
+            self.assertIs(is_code(8, thing), False)
+            self.assertEqual(told_error(chosen, (JUST, JUST), thing), (NoNumber, {}))
+            self.assertEqual(told_error(fitted, SHAPE, thing), (NoTexts, {}))
+            for other in (thing, (thing, (0,)), ((0, 2), (thing, 0)), ((0, 2), thing)):
+                self.assertIs(is_alike(CODE, other), False)
+            for other in (thing, ("none", thing), ("longer", (thing,)), ("alike", (thing,), ()),
+                          ("alike", ((0,),), thing), (thing, ()), (thing, (), ())):
+                self.assertIs(is_verdict(ABOVE, zeros, other), False)
             for other in (thing, ("endless", thing, (0,), ()), ("endless", (), (0,), (thing,)),
                           (thing, (), (0,), ())):
                 self.assertIs(is_endless(JUST, ABOVE, other), False)
@@ -241,6 +315,14 @@ class Deep(unittest.TestCase):
         self.assertIs(is_text(1, wide[1:] + (1,)), False)
         self.assertIs(is_worths(KNOTTY, wide), False)
         self.assertIs(is_idle(KNOTTY, wide), False)
+        self.assertIs(is_alike(CODE, (wide, wide)), False)
+        self.assertIs(is_alike(CODE, (wide, wide[1:])), False)
+        self.assertIs(is_code(8, wide), False)
+        self.assertIs(is_shape((2, wide)), False)
+        self.assertIs(is_verdict(ABOVE, zeros, ("alike", wide, ())), False)
+        self.assertEqual(told_error(fitted, SHAPE, wide), (NoTexts, {}))
+        self.assertEqual(told_error(relettered, JUST, wide), (NoLetters, {}))
+        self.assertEqual(told_error(chosen, wide, 0), (NoMachines, {}))
 
 
 if __name__ == "__main__":

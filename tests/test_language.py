@@ -98,6 +98,24 @@ class Language(unittest.TestCase):
                 if isinstance(node, ast.Constant):
                     self.assertNotIsInstance(node.value, (float, complex), name)
 
+    def test_l7_no_generator_expressions_beside_an_own_equality(self):
+        for name, text, tree in PARSED:
+            for node in ast.walk(tree):
+                self.assertNotIsInstance(node, ast.GeneratorExp, name)
+
+    def test_l20_is(self):
+        for name, text, tree in PARSED:
+            for node in ast.walk(tree):
+                if isinstance(node, ast.Compare) and isinstance(node.ops[0], (ast.Is, ast.IsNot)):
+                    self.assertIsInstance(node.comparators[0], ast.Constant, name)
+
+    def test_l27_exponents(self):
+        for name, text, tree in PARSED:
+            for node in ast.walk(tree):
+                if isinstance(node, ast.BinOp) and isinstance(node.op, ast.Pow):
+                    self.assertIsInstance(node.right, ast.Constant, name)
+                    self.assertLessEqual(node.right.value, 64, name)
+
     def test_l8_l15_names(self):
         for name, text, tree in PARSED:
             bound = names_bound(tree)

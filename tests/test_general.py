@@ -9,15 +9,20 @@ from keptlengths.algebra import behind, chosen, filtered, longer, relettered, ro
 from keptlengths.codes import alike, is_alike, is_code, keeps
 from keptlengths.compare import excess, is_endless, kin, parting
 from keptlengths.counting import many, place_of, text_at
+from keptlengths.disks import Disk, lines, noted, opened, rest, rewritten, standing
 from keptlengths.errors import (
-    Idle, Kept, LengthError, NoBits, NoCode, NoEnd, NoLetters, NoLot, NoMachine, NoMachines, NoNumber,
-    NoShape, NoSize, NoText, NoTexts, NotKept, OtherSize, TooMany,
+    BadText, Down, Idle, Kept, LengthError, NoArea, NoBits, NoCode, NoDeed, NoEnd, NoItems, NoLetters, NoLot,
+    NoMachine, NoMachines, NoNumber, NoShape, NoSize, NoStand, NoText, NoTexts, NoThing, NotDown, NotKept,
+    OtherSize, TooMany,
 )
 from keptlengths.fitting import fitted, is_shape
 from keptlengths.foes import is_verdict, play, proof_lot
 from keptlengths.lots import best, is_lot, lot_word, price, read_lot_word, sum_best
 from keptlengths.machines import is_bits, is_idle, is_machine, is_text, idle, length, trimmed
+from keptlengths.notation import machine_text, read_machine
+from keptlengths.stores import Store, is_deed
 from keptlengths.sums import is_worths, kept, raised, total, worths
+from keptlengths.texts import check, read_thing, sealed, thing_text, unsealed
 from keptlengths.words import needed, packed, read_word, unpacked, word
 from samples import (
     ABOVE, JUST, KNOTTY, NEGATIVE, ODD, ONES, chain, mixed, nested, plain_length,
@@ -65,16 +70,57 @@ INTERFACE = {
         "chosen": ("machines", "more"), "behind": ("one", "other"), "rows_of": ("machine", "more"),
     },
     "fitting": {"is_shape": ("thing",), "fitted": ("shape", "texts")},
+    "disks": {
+        "lines": ("text",), "rest": ("text",), "standing": ("disk",), "opened": ("disk",),
+        "noted": ("disk", "item", "most"), "rewritten": ("disk", "items", "most"),
+    },
+    "texts": {
+        "thing_text": ("thing",), "read_thing": ("text",), "check": ("text",), "sealed": ("thing",),
+        "unsealed": ("text",),
+    },
+    "stores": {"is_deed": ("store", "thing")},
+    "notation": {"machine_text": ("machine",), "read_machine": ("text",)},
 }
-OF_A_MACHINE = (trimmed, idle, total, worths, kept, raised, kin, proof_lot)
+CLASSES = {
+    "disks": (Disk, (), {
+        "area": ("k",), "append": ("k", "text", "most"), "clear": ("k",), "shorten": ("k", "many"),
+        "copy": (), "__eq__": ("other",),
+    }),
+    "stores": (Store, ("machine",), {
+        "do": ("deed",), "cut": ("deed", "most"), "fall": (), "compact": ("most",), "rise": (),
+        "texts": (), "text": ("k",), "machine": (), "bits": (), "up": (), "disk": (), "copy": (),
+    }),
+}
+OF_A_MACHINE = (trimmed, idle, total, worths, kept, raised, kin, proof_lot, machine_text)
 OF_A_MACHINE_AND_MORE = (
     length, is_idle, is_worths, many, place_of, word, read_word, packed, unpacked, needed, parting,
     excess, keeps, play, longer, relettered, filtered, without, behind, rows_of,
 )
 OF_A_THING = (is_machine, is_bits, is_lot, is_shape)
+# What is told of any value that is none, and what is raised for it.
+OF_A_TEXT = (
+    (lines, (NoText, {})), (rest, (NoText, {})), (check, (NoText, {})),
+    (read_thing, (BadText, {"place": -1})), (unsealed, None), (read_machine, None),
+)
 OF_A_LOT_AND_MORE = (best, sum_best, price, lot_word)
 CODE = (((), "0"), ((0,), "01"), ((1,), "10"))
 SHAPE = (2, ((True, (0, 1)), (True, (None, 0))))
+
+
+def new_disk():
+    """A disk that stands, with two items."""
+    disk = Disk()
+    opened(disk)
+    noted(disk, ("a", 1), None)
+    noted(disk, None, None)
+    return disk
+
+
+def new_store():
+    """A store with two texts."""
+    store = Store(JUST)
+    store.do(("put", ((), (0, 1))))
+    return store
 
 
 def zeros(text):
@@ -97,7 +143,9 @@ CALLS = (
     (is_verdict, (ABOVE, zeros, ("alike", ((), ()), ((0,),)))), (longer, (KNOTTY, 5)),
     (relettered, (KNOTTY, (2, 0, 1))), (filtered, (JUST, ONES)), (without, (JUST, ONES)),
     (chosen, ((JUST, ONES), 3)), (behind, (JUST, ONES)), (rows_of, (JUST, 3)),
-    (fitted, (SHAPE, ((), (0, 1, 1)))),
+    (fitted, (SHAPE, ((), (0, 1, 1)))), (thing_text, ((1, "a", None),)), (read_thing, ("(1,'a',.)",)),
+    (check, ("abc\n",)), (sealed, ((1, "a"),)), (unsealed, (".#15",)), (machine_text, (KNOTTY,)),
+    (read_machine, ("size 1\n1 -\n",)), (lines, ("(0,5)#220\n(5,6",)), (rest, ("(0,5)#220\n(5,6",)),
 )
 # What each of them raises for, and what is raised, where more than one error is due.
 DUE = (
@@ -145,6 +193,16 @@ DUE = (
     (rows_of, (chain(30, 8, 1, 60), 61), NoSize), (rows_of, (chain(30, 7, 1, 60), 61), NoNumber),
     (rows_of, (chain(30, 7, 1, 60), 1), NoEnd), (fitted, (None, None), NoShape),
     (fitted, (SHAPE, [()]), NoTexts),
+    (lines, (None,), NoText), (rest, ("\t",), NoText), (check, (5,), NoText), (sealed, ([],), NoThing),
+    (thing_text, (True,), NoThing), (machine_text, (None,), NoMachine),
+    (noted, (Disk(), [], -1), NoItems), (noted, (Disk(), 5, -1), NoNumber), (noted, (Disk(), 5, 0), NoStand),
+    (rewritten, (Disk(), [], -1), NoItems), (rewritten, (Disk(), (), -1), NoNumber),
+    (rewritten, (Disk(), (), 0), NoStand), (Disk().append, (2, None, -1), NoArea),
+    (Disk().append, (1, None, -1), NoText), (Disk().append, (1, "", -1), NoNumber),
+    (Disk().shorten, (2, -1), NoArea), (Disk().shorten, (0, 1), NoNumber), (Disk().clear, (None,), NoArea),
+    (Store, (None,), NoMachine), (Store, (ABOVE,), NotKept), (new_store().do, (None,), NoDeed),
+    (new_store().cut, (None, -1), NoDeed), (new_store().cut, (("put", ((),)), None), NoNumber),
+    (new_store().compact, (-1,), NoNumber), (new_store().rise, (), NotDown), (new_store().text, (2,), NoNumber),
 )
 
 
@@ -162,6 +220,18 @@ class Interface(unittest.TestCase):
                     for parameter in told.values():
                         self.assertEqual(parameter.kind, parameter.POSITIONAL_OR_KEYWORD)
                         self.assertIs(parameter.default, parameter.empty)
+
+    def test_classes_and_their_own_methods(self):
+        for module, (held, arguments, methods) in CLASSES.items():
+            self.assertEqual(held.__module__, "keptlengths." + module)
+            self.assertEqual(tuple(inspect.signature(held).parameters), arguments)
+            for name, own in methods.items():
+                with self.subTest(name):
+                    method = vars(held)[name]
+                    self.assertTrue(inspect.isfunction(method))
+                    told = inspect.signature(method).parameters
+                    self.assertEqual(tuple(told), ("self",) + own)
+                    self.assertTrue(all(one.default is one.empty for one in told.values()))
 
     def test_errors_are_defined_in_their_file(self):
         held = importlib.import_module("keptlengths.errors")
@@ -190,6 +260,14 @@ class Order(unittest.TestCase):
                 fields = {"most": 4000} if error is TooMany else {}
                 told = None if error is None else (error, fields)
                 self.assertEqual(told_error(function, *arguments), told)
+
+    def test_a_store_that_is_down_tells_it_first(self):
+        store = new_store()
+        store.fall()
+        for tell, arguments in ((store.do, (None,)), (store.cut, (None, None)), (store.cut, (("put", ((),)), 0)),
+                                (store.fall, ()), (store.compact, (None,)), (store.compact, (-1,))):
+            self.assertEqual(told_error(tell, *arguments), (Down, {}))
+        self.assertEqual(told_error(store.text, 2), (NoNumber, {}))
 
     def test_of_two_machines_the_first_is_checked_first(self):
         for odd in ODD:
@@ -230,7 +308,8 @@ class Nothing(unittest.TestCase):
         things = [KNOTTY, [1, [2]], {"a": [3]}, [[0], [1]], ("endless", [0], [0], [0]),
                   ((0,), [0]), ([0],), [list(ONES)], (JUST, list(ONES)), {0: [ONES]}, [0, 1],
                   ((0, 2), [1, 0]), [[0, 2], [1, 0]], list(CODE), (((), "0"), [(1,), "1"]),
-                  ("alike", [()], [(0,)]), (2, list(SHAPE[1])), [()]]
+                  ("alike", [()], [(0,)]), (2, list(SHAPE[1])), [()], ["put", [()]], ("put", [()]),
+                  ("change", list(JUST)), (1, ["a"]), {"a": ((),)}]
         for function, arguments in CALLS:
             for at in range(len(arguments)):
                 for thing in things:
@@ -238,6 +317,26 @@ class Nothing(unittest.TestCase):
                     told_error(function, *own)
                     self.assertEqual(own[at], thing)
                     self.assertEqual(own[:at] + own[at + 1:], arguments[:at] + arguments[at + 1:])
+
+    def test_is_changed_by_disks_and_stores(self):
+        things = [[1, [2]], {"a": [3]}, ["put", [()]], ("put", [()]), ("change", list(JUST)), (1, ["a"]), [(0,)]]
+        disk, store = new_disk(), new_store()
+        areas, told = disk.copy(), store.disk()
+        for thing in things:
+            own = copy.deepcopy(thing)
+            for tell, arguments in (
+                    (noted, (disk, own, None)), (rewritten, (disk, own, None)), (noted, (disk, 1, own)),
+                    (rewritten, (disk, (), own)), (disk.append, (0, own, None)), (disk.append, (0, "a", own)),
+                    (disk.append, (own, "a", None)), (disk.shorten, (0, own)), (disk.clear, (own,)),
+                    (disk.area, (own,)), (store.do, (own,)), (store.cut, (own, 3)), (store.compact, (own,)),
+                    (store.cut, (("put", ((),)), own)), (store.text, (own,)), (Store, (own,))):
+                self.assertIsNotNone(told_error(tell, *arguments))
+            self.assertIs(is_deed(store, own), False)
+            self.assertIs(disk == own, False)
+            self.assertEqual(own, thing)
+        self.assertTrue(disk == areas)
+        self.assertTrue(store.disk() == told)
+        self.assertEqual((store.texts(), store.up()), ([(), (0, 1)], True))
 
     def test_equal_calls_are_answered_alike(self):
         told = [function(*arguments) for function, arguments in CALLS]
@@ -280,6 +379,27 @@ class Deep(unittest.TestCase):
             self.assertEqual(told_error(is_alike, thing, thing), (NoCode, {}))
             self.assertEqual(told_error(alike, thing), (NoCode, {}))
             self.assertEqual(told_error(is_code, thing, thing), (NoSize, {}))
+            self.assertEqual(told_error(Store, thing), (NoMachine, {}))
+            for tell, told in OF_A_TEXT:
+                self.assertEqual(told_error(tell, thing), told)
+
+    def test_no_recursion_error_of_disks_and_stores(self):
+        for thing in (nested(30), mixed(30), nested(29, [{}]), nested(5000), mixed(5000)):
+            for tell in (thing_text, sealed):
+                self.assertEqual(told_error(tell, thing), (NoThing, {}))
+            self.assertEqual(told_error(noted, Disk(), thing, None), (NoItems, {}))
+            self.assertEqual(told_error(rewritten, Disk(), (thing,), None), (NoItems, {}))
+            self.assertEqual(told_error(Disk().append, 0, thing, None), (NoText, {}))
+            self.assertEqual(told_error(Disk().append, thing, "", None), (NoArea, {}))
+            store = new_store()
+            for deed in (thing, ("put", thing), ("put", (thing,)), ("change", thing), (thing, ((),))):
+                self.assertEqual(told_error(store.do, deed), (NoDeed, {}))
+                self.assertIs(is_deed(store, deed), False)
+        for text in ("(" * 20000, "(" * 30 + ")" * 30, "(" * 29 + "1" + ")" * 29, "((()" * 5000):
+            self.assertIn(told_error(read_thing, text), (None, (BadText, {"place": 30}), (BadText, {"place": 4})))
+            unsealed(text)
+            self.assertEqual(lines(text), [])
+            self.assertIsNone(read_machine(text))
 
     def test_no_recursion_error_for_later_arguments(self):
         for thing in (nested(30), mixed(30), nested(29, [{}]), nested(5000), mixed(5000)):
@@ -323,6 +443,9 @@ class Deep(unittest.TestCase):
         self.assertEqual(told_error(fitted, SHAPE, wide), (NoTexts, {}))
         self.assertEqual(told_error(relettered, JUST, wide), (NoLetters, {}))
         self.assertEqual(told_error(chosen, wide, 0), (NoMachines, {}))
+        self.assertEqual(read_thing(thing_text(wide)), wide)
+        self.assertIs(is_deed(new_store(), ("put", wide)), False)
+        self.assertIs(is_deed(new_store(), ("put", (wide,))), False)
 
 
 if __name__ == "__main__":

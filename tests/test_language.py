@@ -124,6 +124,23 @@ class Language(unittest.TestCase):
                 if isinstance(node, ast.Name) and node.id not in bound:
                     self.assertIn(node.id, BUILTINS, name)
 
+    def test_l15_no_variable_is_called_as_what_its_file_imports_or_defines(self):
+        for name, text, tree in PARSED:
+            held = {alias.name for node in tree.body if isinstance(node, ast.ImportFrom) for alias in node.names}
+            held |= {node.name for node in tree.body if isinstance(node, (ast.ClassDef, ast.FunctionDef))}
+            for node in ast.walk(tree):
+                if isinstance(node, ast.arg):
+                    self.assertNotIn(node.arg, held, name)
+                if isinstance(node, ast.Name) and not isinstance(node.ctx, ast.Load):
+                    self.assertNotIn(node.id, held, name)
+
+    def test_l18_no_name_is_a_method_and_an_attribute(self):
+        methods = own_methods()
+        for name, text, tree in PARSED:
+            for node in ast.walk(tree):
+                if isinstance(node, ast.Attribute) and not isinstance(node.ctx, ast.Load):
+                    self.assertNotIn(node.attr, methods, name)
+
     def test_l10_size(self):
         for name, text, tree in PARSED:
             self.assertLessEqual(text.count("\n"), 399, name)

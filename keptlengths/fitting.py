@@ -71,7 +71,7 @@ def fewest_bits(counts):
     if not counts:
         return ()
     # Where choices are taken alike often, the fewer bits go to the first one.
-    order = sorted(range(len(counts)), key=lambda choice: -counts[choice])
+    order = sorted(range(len(counts)), key=lambda k: -counts[k])
     found = []
     for depths in full_depths(1, len(counts), 0):
         bits = [0] * len(counts)
